@@ -1,0 +1,1 @@
+"""Wordfit: deterministic machines that fit given words."""
