@@ -1,7 +1,7 @@
 """The errors of Wordfit.
 
-Each one is a direct subclass of a built-in class: without a common base class,
-no error is caught as one of another kind.
+They share no base class of their own, although most are written alike: each one
+must be a direct subclass of its built-in class.
 """
 
 
