@@ -40,3 +40,36 @@ class ErrorCase(unittest.TestCase):
         self.assertEqual(type(error).__bases__, (BUILT_IN.get(type(error).__name__, ValueError),))
         # 1 and True are equal, but they are written differently.
         self.assertEqual(repr(vars(error)), repr(vars(expected)))
+
+
+class NaiveWalk:
+    """The walk of point [14] over points, for a table of transitions, with the words of the couples."""
+
+    def __init__(self, rows, over):
+        self.couples, self.words, self.needed, self.stopped = [(0, 0)], [""], [], None
+        for state, point in self.couples:
+            word = self.words[self.couples.index((state, point))]
+            for letter, following in enumerate(over.nexts[point]):
+                if following is None:
+                    continue
+                if rows[state][letter] is None:
+                    self.stopped = (state, letter)
+                    return
+                if (state, letter) not in self.needed:
+                    self.needed.append((state, letter))
+                if (rows[state][letter], following) not in self.couples:
+                    self.couples.append((rows[state][letter], following))
+                    self.words.append(word + over.letters[letter])
+
+    def marks(self, over, state):
+        """The marks of the points with which a state is coupled."""
+        return {over.marks[point] for found, point in self.couples if found == state} - {None}
+
+    def clashes(self, over):
+        return any(len(self.marks(over, state)) > 1 for state, _ in self.couples)
+
+
+def all_tables(letters, size, targets):
+    """All tables of transitions with so many states."""
+    for row in itertools.product(targets, repeat=size * len(letters)):
+        yield tuple(row[state * len(letters):(state + 1) * len(letters)] for state in range(size))

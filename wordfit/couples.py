@@ -5,13 +5,16 @@ class Couples:
     """The couples (state, point) that a walk finds, in their order.
 
     A walk stops at the first transition that is missing. It also stops at its first clash, that is as soon as a state
-    is coupled with a True and with a False point: then nothing that is found later is of interest.
+    is coupled with a True and with a False point: then nothing that is found later is of interest. The machine may be
+    built while it is walked: after the missing transition was chosen, the walk goes on, and a choice can be dropped.
     """
 
     def __init__(self, points, transitions):
+        self._letters = points.letters
         self._nexts = points.nexts
         self._signs = points.marks
         self._known = {}
+        self._origins = []
         self._taken = 0
         # For each state the number of the first couple of it that has a marked point.
         self._first_marked = [None] * len(transitions)
@@ -19,13 +22,14 @@ class Couples:
         self.found = []
         self.missing = None
         self.clash = None
-        self._find(0, 0)
+        self._find(0, 0, "")
 
-    def _find(self, state, point):
-        """Note a couple, unless it was found before."""
+    def _find(self, state, point, letter):
+        """Note a couple that is found by a letter from the couple that is taken, unless it was found before."""
         if (state, point) in self._known:
             return
         self._known[(state, point)] = True
+        self._origins.append((self._taken, letter))
         self.found.append((state, point))
         if self._signs[point] is not None:
             self._note_mark(state, point)
@@ -57,11 +61,43 @@ class Couples:
             if self.rows[state][letter] is None:
                 self.missing = (state, letter)
                 return
-            self._find(self.rows[state][letter], following)
+            self._find(self.rows[state][letter], following, self._letters[letter])
+
+    def choose(self, target):
+        """Choose the target of the transition that is missing. Return what `drop` needs."""
+        state, letter = self.missing
+        self.rows[state][letter] = target
+        return (state, letter, self._taken, len(self.found))
+
+    def drop(self, choice):
+        """Take the last choice back, and all that the walk found by it."""
+        state, letter, taken, many = choice
+        self.rows[state][letter] = None
+        self.missing = (state, letter)
+        self.clash = None
+        self._taken = taken
+        while len(self.found) > many:
+            couple = self.found.pop()
+            del self._known[couple]
+            self._origins.pop()
+            if self._first_marked[couple[0]] == len(self.found):
+                self._first_marked[couple[0]] = None
 
     def ended(self):
         """Return whether the walk has taken all couples, without a clash."""
         return self.missing is None and self.clash is None
+
+    def word_of(self, number):
+        """Return the word along which the couple with this number was found first."""
+        letters = []
+        while number > 0:
+            number, letter = self._origins[number]
+            letters.append(letter)
+        return "".join(letters[::-1])
+
+    def found_marks(self):
+        """Return for each state the mark of a marked point with which it is coupled, None if there is none."""
+        return [None if number is None else self._signs[self.found[number][1]] for number in self._first_marked]
 
     def needed(self):
         """Return the list of (state, letter's index) of the transitions in the order in which they were needed."""

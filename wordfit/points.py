@@ -72,22 +72,21 @@ def walked(machine, points):
     return couples
 
 
-def marks_agree(machine, points, couples):
-    """Return whether each state that is coupled with a marked point has this mark."""
-    return all([points.marks[point] is None or points.marks[point] == machine.marks[state]
-                for state, point in couples.found])
+def is_fitted(machine, couples):
+    """Return whether the machine fits the points, over which its walk has found these couples."""
+    return couples.ended() and all([mark is None or mark == machine.marks[state]
+                                    for state, mark in enumerate(couples.found_marks())])
 
 
 def fits_points(machine, points):
     """Return whether the machine fits the points."""
-    couples = walked(machine, points)
-    return couples.ended() and marks_agree(machine, points, couples)
+    return is_fitted(machine, walked(machine, points))
 
 
 def restricted(machine, points):
     """Return the fit that the machine contains."""
     couples = walked(machine, points)
-    if not couples.ended() or not marks_agree(machine, points, couples):
+    if not is_fitted(machine, couples):
         raise NotFit()
     numbers = {}
     for state, _ in couples.found:
@@ -95,11 +94,8 @@ def restricted(machine, points):
     rows = [[None] * len(points.letters) for _ in numbers]
     for state, letter in couples.needed():
         rows[numbers[state]][letter] = numbers[machine.transitions[state][letter]]
-    marks = [None] * len(numbers)
-    for state, point in couples.found:
-        if points.marks[point] is not None:
-            marks[numbers[state]] = points.marks[point]
-    return Machine(points.letters, rows, marks)
+    marks = couples.found_marks()
+    return Machine(points.letters, rows, [marks[state] for state in numbers])
 
 
 def is_fit(machine, points):
