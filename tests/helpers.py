@@ -3,6 +3,8 @@
 import itertools
 import unittest
 
+from wordfit.points import Points
+
 BUILT_IN = {"UnknownWord": KeyError, "DuplicateWord": KeyError, "NothingToUndo": LookupError,
             "NothingToRedo": LookupError, "OutOfRange": IndexError, "TooLarge": ArithmeticError}
 
@@ -24,10 +26,24 @@ NO_ROWS = (None, True, False, 0, 1, "", "ab", "00", {}, {0: 0, 1: 1}, (), [], (0
            [0, 0, None])
 NO_MARKS = (0, 1, 2, -1, "", "+", "True", "None", (), [], (True,), [None], {}, {True: True})
 
+# What is no size of the machines that are looked for.
+NO_SIZES = (0, -1, -10 ** 60, True, False, "2", "", None, (), [1], (2,), {}, {1: 2})
+
 
 def all_words(letters, length):
     """All words of at most this length, in word order."""
     return ["".join(row) for many in range(length + 1) for row in itertools.product(letters, repeat=many)]
+
+
+def rings(many, letters="a"):
+    """So many points without marks, in a ring by each letter."""
+    return Points(letters, [[(at + 1) % many] * len(letters) for at in range(many)], [None] * many)
+
+
+def random_points(chance, letters, many):
+    """So many points; the random source is passed."""
+    nexts = [[chance.choice((None, *range(many))) for _ in letters] for _ in range(many)]
+    return Points(letters, nexts, [chance.choice((None, True, False)) for _ in range(many)])
 
 
 class ErrorCase(unittest.TestCase):

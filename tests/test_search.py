@@ -4,7 +4,7 @@ import random
 import types
 import unittest
 
-from helpers import ErrorCase, NaiveWalk, all_tables, all_words
+from helpers import NO_SIZES, ErrorCase, NaiveWalk, all_tables, all_words, random_points, rings
 from wordfit import search
 from wordfit.errors import InvalidLetters, NotFit, OutOfRange, TooLarge
 from wordfit.limits import CHOICES, POINTS
@@ -13,7 +13,6 @@ from wordfit.points import Points, Prefixes, is_fit
 from wordfit.samples import Sample
 from wordfit.search import count_fits, fit_at, fit_number, fits, least_size
 
-NO_SIZES = (0, -1, -10 ** 60, True, False, "2", "", None, (), [1], (2,), {}, {1: 2})
 # Points 0 to 2 form a ring by "a"; no word reaches point 4.
 RING = Points("ab", [(1, None), (2, 3), (0, None), (3, 0), (1, 1)], [False, None, True, None, False])
 ONE_LETTER = [Prefixes(Sample("a", yes, no)) for yes, no in (
@@ -25,11 +24,6 @@ TWO_LETTERS = [Prefixes(Sample("ab", yes, no)) for yes, no in (
     (["ba"], ["aa", "bb"]))]
 TWO_LETTERS += [RING, Points("ab", [(0, 0)], [None]), Points("ab", [(1, 0), (0, 1)], [True, False]),
                 Points("ab", [(None, 1), (None, None)], [True, True])]
-
-
-def rings(many, letters="a"):
-    """So many points, in a ring by each letter."""
-    return Points(letters, [[(at + 1) % many] * len(letters) for at in range(many)], [None] * many)
 
 
 def expected_fits(over, size):
@@ -54,11 +48,6 @@ def expected_size(over, most):
         if any(not NaiveWalk(rows, over).clashes(over) for rows in all_tables(over.letters, size, range(size))):
             return size
     return None
-
-
-def random_points(chance, letters, many):
-    nexts = [[chance.choice((None, *range(many))) for _ in letters] for _ in range(many)]
-    return Points(letters, nexts, [chance.choice((None, True, False)) for _ in range(many)])
 
 
 class LeastSizeTest(ErrorCase):

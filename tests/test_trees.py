@@ -4,7 +4,7 @@ import copy
 import random
 import unittest
 
-from helpers import ErrorCase, NaiveWalk, all_words
+from helpers import NO_SIZES, ErrorCase, NaiveWalk, all_words, random_points, rings
 from wordfit import trees
 from wordfit.errors import OutOfRange, TooLarge
 from wordfit.limits import CHOICES, NODES, POINTS
@@ -13,7 +13,6 @@ from wordfit.samples import Sample
 from wordfit.search import count_fits, fits, least_size
 from wordfit.trees import case_tree, check_tree
 
-NO_SIZES = (0, -1, -10 ** 60, True, False, "2", "", None, (), [1], (2,), {}, {1: 2})
 EXAMPLE = Prefixes(Sample("a", ["a"], [""]))
 # No machine with one state fits, but some with two states do.
 TWO = Prefixes(Sample("ab", ["a", "b"], ["", "ab"]))
@@ -27,11 +26,6 @@ BEYOND = Points("ab", ((4, 1), (1, 3), (1, 1), (0, 0), (None, 2)), (None, True, 
 # No machine with four states fits, and the tree has 2307 nodes.
 LARGE = Points("ab", ((2, 5), (1, 0), (4, 4), (6, 6), (1, 5), (5, 6), (4, 3)),
                (None, True, None, None, False, None, None))
-
-
-def rings(many, letters="a"):
-    """So many points, in a ring by each letter."""
-    return Points(letters, [[(at + 1) % many] * len(letters) for at in range(many)], [None] * many)
 
 
 def first_clash(walk, over):
@@ -65,11 +59,6 @@ def expected_tree(over, size):
             nodes[number] = ("next", tuple(children))
     grow([[None] * len(over.letters) for _ in range(size)])
     return nodes
-
-
-def random_points(chance, letters, many):
-    nexts = [[chance.choice((None, *range(many))) for _ in letters] for _ in range(many)]
-    return Points(letters, nexts, [chance.choice((None, True, False)) for _ in range(many)])
 
 
 class CaseTreeTest(ErrorCase):

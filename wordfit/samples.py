@@ -92,21 +92,21 @@ class Sample:
     def adding(self, *words, mark=True):
         """Return the sample with these words, too."""
         check_words(words, self._letters)
-        seen = set()
+        seen = {}
         for word in words:
             if word in self._marks or word in seen:
                 raise DuplicateWord(word)
-            seen.add(word)
+            seen[word] = True
         if mark:
             return Sample(self._letters, self._yes + words, self._no)
         return Sample(self._letters, self._yes, self._no + words)
 
     def without(self, *words):
         """Return the sample without these words."""
-        seen = set()
+        seen = {}
         for word in words:
             if self.mark(word) is None or word in seen:
                 raise UnknownWord(word)
-            seen.add(word)
-        yes = [word for word in self._yes if word not in words]
-        return Sample(self._letters, yes, [word for word in self._no if word not in words])
+            seen[word] = True
+        yes = [word for word in self._yes if word not in seen]
+        return Sample(self._letters, yes, [word for word in self._no if word not in seen])
