@@ -5,7 +5,7 @@ import random
 import types
 import unittest
 
-from helpers import ErrorCase, all_words
+from helpers import ErrorCase, all_words, order, random_sample, small_samples
 from wordfit import merging
 from wordfit.machines import Complete, Machine
 from wordfit.merging import Merger, ScoredMerger, merged
@@ -14,10 +14,6 @@ from wordfit.samples import Sample
 
 S = Sample("a", ["", "aa"], ["a"])
 M = Complete("a", [(1,), (0,)], [True, False])
-
-
-def order(word):
-    return (len(word), word)
 
 
 class NaiveMerger:
@@ -104,12 +100,6 @@ def can_be_merged(machine, one, other):
     return not any({True, False} <= {machine.marks[state] for state in states} for states in classes)
 
 
-def random_sample(chance, letters, length, many):
-    words = chance.sample(all_words(letters, length), many)
-    yes = [word for word in words if chance.random() < 0.5]
-    return Sample(letters, yes, [word for word in words if word not in yes])
-
-
 class MergerTest(ErrorCase):
     def check(self, sample):
         for cls, scored in ((Merger, False), (ScoredMerger, True)):
@@ -187,11 +177,8 @@ class MergerTest(ErrorCase):
         self.assertGreater(different, 10)
 
     def test_all_small_samples(self):
-        words = all_words("ab", 2)
-        for number, marks in enumerate(itertools.product((None, True, False), repeat=7)):
-            if number % 5 == 0:
-                self.check(Sample("ab", [word for word, mark in zip(words, marks) if mark],
-                                  [word for word, mark in zip(words, marks) if mark is False]))
+        for sample in itertools.islice(small_samples(), 0, None, 5):
+            self.check(sample)
 
     def test_random_samples(self):
         chance = random.Random(7)

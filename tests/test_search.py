@@ -4,7 +4,7 @@ import random
 import types
 import unittest
 
-from helpers import NO_SIZES, ErrorCase, NaiveWalk, all_tables, all_words, random_points, rings
+from helpers import NO_SIZES, ErrorCase, all_words, expected_fits, expected_size, random_points, rings
 from wordfit import search
 from wordfit.errors import InvalidLetters, NotFit, OutOfRange, TooLarge
 from wordfit.limits import CHOICES, POINTS
@@ -24,30 +24,6 @@ TWO_LETTERS = [Prefixes(Sample("ab", yes, no)) for yes, no in (
     (["ba"], ["aa", "bb"]))]
 TWO_LETTERS += [RING, Points("ab", [(0, 0)], [None]), Points("ab", [(1, 0), (0, 1)], [True, False]),
                 Points("ab", [(None, 1), (None, None)], [True, True])]
-
-
-def expected_fits(over, size):
-    """All fits of a size, found by going through all tables of transitions."""
-    found = []
-    for rows in all_tables(over.letters, size, (None, *range(size))):
-        walk = NaiveWalk(rows, over)
-        needed = [(state, letter) for state in range(size) for letter in range(len(over.letters))
-                  if rows[state][letter] is not None]
-        states = list(dict.fromkeys(state for state, _ in walk.couples))
-        if walk.stopped is None and states == list(range(size)) and sorted(walk.needed) == needed \
-                and not walk.clashes(over):
-            marks = [next(iter(walk.marks(over, state)), None) for state in range(size)]
-            targets = tuple(rows[state][letter] for state, letter in walk.needed)
-            found.append((targets, Machine(over.letters, rows, marks)))
-    return [fit for _, fit in sorted(found, key=lambda pair: pair[0])]
-
-
-def expected_size(over, most):
-    """The least size, found by going through all complete tables of transitions."""
-    for size in range(1, most + 1):
-        if any(not NaiveWalk(rows, over).clashes(over) for rows in all_tables(over.letters, size, range(size))):
-            return size
-    return None
 
 
 class LeastSizeTest(ErrorCase):

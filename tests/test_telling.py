@@ -4,7 +4,8 @@ import itertools
 import random
 import unittest
 
-from helpers import ErrorCase, all_words
+from helpers import (ErrorCase, all_machines, all_words, least_unreduced, order, random_machine, turned, without,
+                     words_of_states)
 from wordfit import telling
 from wordfit.errors import NotComplete, NotReduced, TooLarge
 from wordfit.limits import TOLD
@@ -16,29 +17,6 @@ from wordfit.telling import is_telling, told_sample
 S = Sample("a", ["", "aa"], ["a"])
 M = Complete("a", [(1,), (0,)], [True, False])
 FIVE = Complete("a", [(1,), (2,), (3,), (4,), (0,)], [True, False, False, False, False])
-
-
-def order(word):
-    return (len(word), word)
-
-
-def words_of_states(machine):
-    """The least word of each state, found by going through all words that are long enough; None if there is none."""
-    words = [None] * machine.size
-    for word in all_words(machine.letters, machine.size - 1):
-        if words[machine.run(word)] is None:
-            words[machine.run(word)] = word
-    return words
-
-
-def least_unreduced(machine):
-    """The state that NotReduced names for a complete machine, None if the machine is reduced."""
-    words = words_of_states(machine)
-    if None in words:
-        return words.index(None)
-    endings = all_words(machine.letters, machine.size)
-    answers = [[machine.answer(word + ending) for ending in endings] for word in words]
-    return next((state for state in range(machine.size) if answers[state] in answers[:state]), None)
 
 
 def by_least_words(machine):
@@ -65,23 +43,6 @@ def tells(machine, sample):
                for u in least for v in longer if machine.run(u) != machine.run(v))
 
 
-def all_machines(letters, size):
-    """All complete machines of a size."""
-    rows = list(itertools.product(range(size), repeat=len(letters)))
-    for transitions in itertools.product(rows, repeat=size):
-        for marks in itertools.product((True, False), repeat=size):
-            yield Complete(letters, transitions, marks)
-
-
-def random_machine(chance, letters, size):
-    """A reduced machine."""
-    while True:
-        machine = Complete(letters, [[chance.randrange(size) for _ in letters] for _ in range(size)],
-                           [chance.random() < 0.5 for _ in range(size)])
-        if least_unreduced(machine) is None:
-            return machine
-
-
 def some_machines():
     """Reduced machines of one to four states."""
     for letters in ("a", "ab"):
@@ -92,15 +53,6 @@ def some_machines():
     chance = random.Random(10)
     for letters, size in itertools.product(("ab", "abc", "abcd"), (1, 2, 3, 4)):
         yield from (random_machine(chance, letters, size) for _ in range(12))
-
-
-def without(sample, word):
-    return Sample(sample.letters, [one for one in sample.yes if one != word], [one for one in sample.no if one != word])
-
-
-def turned(sample, word):
-    yes = [one for one in sample.yes if one != word] + [word] * (word in sample.no)
-    return Sample(sample.letters, yes, [one for one in sample.no if one != word] + [word] * (word in sample.yes))
 
 
 class ToldSampleTest(ErrorCase):

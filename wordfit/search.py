@@ -85,13 +85,20 @@ class Search:
         return Machine(self._letters, self._couples.rows, self._couples.found_marks())
 
 
-def least_size(points, most):
-    """Return the least size of a machine that fits, or None if it is greater than `most`."""
+def first_fit(points, most):
+    """Return the first fit of the least size, or None if this size is greater than `most`."""
     check_size(points, most)
     for size in range(1, most + 1):
-        if Search(points, size).advance():
-            return size
+        search = Search(points, size)
+        if search.advance():
+            return search.machine()
     return None
+
+
+def least_size(points, most):
+    """Return the least size of a machine that fits, or None if it is greater than `most`."""
+    fit = first_fit(points, most)
+    return None if fit is None else fit.size
 
 
 def fits(points, size):

@@ -27,14 +27,34 @@ def numbered(keys):
 
 
 def state_classes(machine):
-    """Return for each state of a complete machine the number of its class of equivalent states.
+    """Return for each state the number of its class of equivalent states.
 
-    The classes are numbered by their least states.
+    The classes are numbered by their least states. From each state to which a transition leads, some word has to lead
+    to a mark, as in a complete machine: only then no transition does the same as a missing one.
     """
     classes = numbered(machine.marks)
     while True:
-        finer = numbered([(classes[state], *[classes[target] for target in row])
+        finer = numbered([(classes[state], *[None if target is None else classes[target] for target in row])
                           for state, row in enumerate(machine.transitions)])
         if finer == classes:
             return classes
         classes = finer
+
+
+def state_after(machine, state, word):
+    """Return the state to which the word leads from a state, None if it leaves the machine or this is None already."""
+    for letter in word:
+        if state is None:
+            return None
+        state = machine.transitions[state][machine.letters.index(letter)]
+    return state
+
+
+def mark_at(machine, state):
+    """Return the mark of a state, None if the machine was left."""
+    return None if state is None else machine.marks[state]
+
+
+def row_at(machine, state):
+    """Return the targets of a state's transitions; all are None if the machine was left."""
+    return [None] * len(machine.letters) if state is None else machine.transitions[state]

@@ -40,3 +40,16 @@ def first_open_row(rows, marks):
 def copied_rows(rows):
     """Return the rows as a tuple of tuples."""
     return tuple([tuple(row) for row in rows])
+
+
+def rows_leading_to(rows, aims):
+    """Return for each row whether some way along the targets, perhaps of no step, leads to a row that is an aim."""
+    found = list(aims)
+    going = True
+    while going:
+        going = False
+        for number, row in enumerate(rows):
+            if not found[number] and any([target is not None and found[target] for target in row]):
+                found[number] = True
+                going = True
+    return found

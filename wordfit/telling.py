@@ -5,6 +5,7 @@ from wordfit.limits import TOLD
 from wordfit.samples import Sample
 from wordfit.states import least_words, state_classes
 from wordfit.tables import first_open_row
+from wordfit.words import longer_words, words_up_to
 
 
 def reduced_words(machine):
@@ -21,11 +22,6 @@ def reduced_words(machine):
         if number != state:
             raise NotReduced(state)
     return words
-
-
-def longer_words(words, letters):
-    """Return the list of the words, each followed by any one letter."""
-    return [word + letter for word in words for letter in letters]
 
 
 def is_telling(machine, sample):
@@ -55,16 +51,6 @@ def is_told_from(machine, sample, word, longer):
     return True
 
 
-def words_up_to(letters, length):
-    """Return the list of all words of at most this length, in word order."""
-    words = [""]
-    latest = [""]
-    for _ in range(length):
-        latest = longer_words(latest, letters)
-        words.extend(latest)
-    return words
-
-
 def told_sample(machine):
     """Return a sample that tells the machine."""
     words = reduced_words(machine)
@@ -77,8 +63,13 @@ def told_sample(machine):
             if machine.run(word) != machine.run(other):
                 ending = telling_ending(machine, word, other)
                 told.extend([word + ending, other + ending])
-    yes = [word for word in told if machine.answer(word)]
-    return Sample(machine.letters, yes, [word for word in told if not machine.answer(word)])
+    return marked_sample(machine, told)
+
+
+def marked_sample(machine, words):
+    """Return the sample of the words with the marks that the complete machine gives them."""
+    yes = [word for word in words if machine.answer(word)]
+    return Sample(machine.letters, yes, [word for word in words if not machine.answer(word)])
 
 
 def telling_ending(machine, word, other):

@@ -40,3 +40,18 @@ def prefixes_of(words):
     for word in words:
         add_beginnings(found, word)
     return word_order(list(found))
+
+
+def longer_words(words, letters):
+    """Return the list of the words, each followed by any one letter."""
+    return [word + letter for word in words for letter in letters]
+
+
+def words_up_to(letters, length):
+    """Return the list of all words of at most this length, in word order."""
+    words = [""]
+    latest = [""]
+    for _ in range(length):
+        latest = longer_words(latest, letters)
+        words.extend(latest)
+    return words
