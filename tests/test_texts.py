@@ -78,6 +78,7 @@ class MachineTextTest(ErrorCase):
 
     def test_parts(self):
         self.assertEqual(machine_parts("machine ab\n- 1 -\n+ - -"), ("ab", ((1, None), (None, None)), (False, True)))
+        self.assertEqual(machine_parts("machine a\n? -"), ("a", ((None,),), (None,)))
         self.assertEqual(machine_parts(text=COMPLETE, may_be_open=False),
                          ("ab", ((1, 0), (2, 1), (2, 0)), (False, True, False)))
         kinds = [type(part) for part in machine_parts(MACHINE)]

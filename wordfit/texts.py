@@ -1,17 +1,17 @@
-"""The texts of samples and machines.
+"""The texts of samples, machines and notebooks.
 
 A line can stand if a text of an object of the class begins with the lines up to it. So the parts are read line by
 line, and each line is compared only with those in front of it.
 """
 
 from wordfit.errors import InvalidText
-from wordfit.limits import LENGTH, PREFIXES, STATES, WORDS
+from wordfit.limits import CHOICES, LENGTH, PREFIXES, STATES, WORDS
 from wordfit.words import add_beginnings, are_letters, is_word_up_to, word_order
 
 DIGITS = "0123456789"
 EMPTY = "-"
 MISSING = "-"
-SAMPLE_MARKS = {"yes": True, "no": False}
+WORD_MARKS = {"yes": True, "no": False}
 STATE_MARKS = {"+": True, "-": False, "?": None}
 STATE_SIGNS = {True: "+", False: "-", None: "?"}
 
@@ -26,13 +26,23 @@ def target_text(target):
     return MISSING if target is None else str(target)
 
 
+def marked_text(word, mark):
+    """Return how a word with its mark is written."""
+    return f"yes {word_text(word)}" if mark else f"no {word_text(word)}"
+
+
 def sample_text(letters, yes, no):
     """Return the text of a sample with these valid parts."""
-    signs = {word: "yes" for word in yes}
+    marks = {word: True for word in yes}
     for word in no:
-        signs[word] = "no"
-    lines = [f"{signs[word]} {word_text(word)}" for word in word_order(list(signs))]
+        marks[word] = False
+    lines = [marked_text(word, marks[word]) for word in word_order(list(marks))]
     return "\n".join([f"sample {letters}", *lines])
+
+
+def notebook_text(letters, most, entries):
+    """Return the text of a notebook with these valid parts."""
+    return "\n".join([f"notebook {letters}", f"most {most}", *[marked_text(word, mark) for word, mark in entries]])
 
 
 def machine_text(letters, transitions, marks):
@@ -59,7 +69,7 @@ def read_head(lines, kind):
 
 
 def read_word(written, letters):
-    """Return the word of a sample that is written so, or None if this is none."""
+    """Return the word of a sample or a notebook that is written so, or None if this is none."""
     if written == EMPTY:
         return ""
     # The empty word is not written as nothing.
@@ -71,10 +81,10 @@ def read_word(written, letters):
 def read_marked(line, letters):
     """Return the tuple of the mark and the word that a line shows, or None if it shows none."""
     words = line.split(" ")
-    if len(words) != 2 or words[0] not in SAMPLE_MARKS:
+    if len(words) != 2 or words[0] not in WORD_MARKS:
         return None
     word = read_word(words[1], letters)
-    return None if word is None else (SAMPLE_MARKS[words[0]], word)
+    return None if word is None else (WORD_MARKS[words[0]], word)
 
 
 def is_later(word, other):
@@ -82,25 +92,53 @@ def is_later(word, other):
     return (len(word), word) > (len(other), other)
 
 
+def read_entries(lines, start, letters, is_sorted):
+    """Return the tuple (entries, wrong) for the lines from one on, with a tuple of entries (word, mark).
+
+    `wrong` is the index of the first line that cannot stand, and the entries are those in front of it; it is None if
+    all lines can stand. If `is_sorted`, words only stand in word order.
+    """
+    marks = {}
+    prefixes = {}
+    latest = None
+    for line in range(start, len(lines)):
+        marked = read_marked(lines[line], letters)
+        if marked is None or marked[1] in marks or len(marks) == WORDS:
+            return (tuple(marks.items()), line)
+        mark, word = marked
+        add_beginnings(prefixes, word)
+        if len(prefixes) > PREFIXES or (is_sorted and latest is not None and not is_later(word, latest)):
+            return (tuple(marks.items()), line)
+        marks[word] = mark
+        latest = word
+    return (tuple(marks.items()), None)
+
+
 def sample_parts(text):
     """Return (letters, yes, no) of the sample with this text, with tuples of words in word order."""
     lines = text_lines(text)
     letters = read_head(lines, "sample")
-    words = []
-    marked = {}
-    prefixes = {}
-    for line in range(1, len(lines)):
-        entry = read_marked(lines[line], letters)
-        if entry is None or (words != [] and not is_later(entry[1], words[-1])):
-            raise InvalidText(line)
-        mark, word = entry
-        words.append(word)
-        marked[word] = mark
-        add_beginnings(prefixes, word)
-        if len(words) > WORDS or len(prefixes) > PREFIXES:
-            raise InvalidText(line)
-    yes = tuple([word for word in words if marked[word]])
-    return (letters, yes, tuple([word for word in words if not marked[word]]))
+    entries, wrong = read_entries(lines, 1, letters, True)
+    if wrong is not None:
+        raise InvalidText(wrong)
+    yes = tuple([word for word, mark in entries if mark])
+    return (letters, yes, tuple([word for word, mark in entries if not mark]))
+
+
+def notebook_parts(text):
+    """Return (letters, most, entries, wrong) of a notebook's text; `wrong` and the entries as `read_entries` does."""
+    lines = text_lines(text)
+    letters = read_head(lines, "notebook")
+    if len(lines) == 1:
+        raise InvalidText(1)
+    words = lines[1].split(" ")
+    if len(words) != 2 or words[0] != "most" or not is_number_text(words[1], CHOICES // len(letters)):
+        raise InvalidText(1)
+    most = int(words[1])
+    if most == 0:
+        raise InvalidText(1)
+    entries, wrong = read_entries(lines, 2, letters, False)
+    return (letters, most, entries, wrong)
 
 
 def is_number_text(written, greatest):
