@@ -21,8 +21,8 @@ P = Prefixes(Sample("a", ["a"], [""]))
 RING = Points("ab", [(1, None), (2, 3), (0, None), (3, 0), (1, 1)], [False, None, True, None, False])
 # Each fit has four states; five transitions are missing.
 LINE = Prefixes(Sample("ab", ["aaa"], ["", "a", "aa"]))
-# The first fit is contained in one version, and the second one in two.
-UNEQUAL = Points("ab", [(None, 3), (0, 0), (4, 0), (4, 4), (3, 4)], [False, None, False, True, None])
+# The first fit is contained in one version, and the second one in three.
+UNEQUAL = Prefixes(Sample("ab", ["", "b", "aab"], ["abb", "baa", "bab"]))
 # Four states are needed, and in some fits two of them have no mark.
 BLANK = Prefixes(Sample("a", ["", "a" * 4, "a" * 8], ["aa", "a" * 6]))
 NO_WORDS = (*ODD_VALUES, None, True, False, "abc", "ba ", b"a", ("a",), ["a", "b"])
@@ -78,7 +78,7 @@ class AllVersionsTest(ErrorCase):
         self.assertGreater(len(totals), 60)
         self.assertEqual(max(totals), 81)
         self.assertIn(1, totals)
-        self.assertEqual(len(self.check(UNEQUAL, 3)), 3)
+        self.assertEqual(len(self.check(UNEQUAL, 3)), 4)
         self.assertEqual([fit.marks.count(None) for fit in fits(BLANK, 4)], [2])
         self.assertEqual(len(self.check(BLANK, 4)), 4)
 
